@@ -1,0 +1,1 @@
+"""Metehouse: a house of instruments that lie, drift, miss or tell only in part, and what they tell together."""
