@@ -33,6 +33,50 @@ raises BadName(name='B')
 >>> str(way[0][0]), way[0][1]
 ('-a + 2', '<')
 """),
+    ("pieces", r"""
+>>> from metehouse.pieces import Pieces, shared
+>>> lots = [Pieces.between(0, 4), Pieces.between(2, 6), Pieces.between(5, 9)]
+>>> str(shared(lots, 1)), str(shared(lots, 0)), str(~Pieces.between(1, 3))
+('[2, 4] [5, 6]', 'none', '(.., 1) (3, ..)')
+"""),
+    ("gauges", r"""
+>>> from metehouse.forms import Form
+>>> from metehouse.gauges import CoarseGauge
+>>> gauge = CoarseGauge("g", Form.one("a"), step=5)
+>>> str(gauge.says(10)), str(gauge.room(10)), str(gauge)
+('both (-a + 10 <= 0) (a - 15 < 0)', '[10, 15)', 'coarse g 0 5 : a')
+"""),
+    ("gauges", r"""
+>>> from metehouse.forms import Form
+>>> from metehouse.gauges import CoarseGauge
+>>> CoarseGauge("g", Form.one("a"), step=5).says(12)
+raises BadReading(name='g', told=12)
+"""),
+    ("racks", r"""
+>>> from metehouse.forms import Form
+>>> from metehouse.gauges import Gauge
+>>> from metehouse.racks import Rack
+>>> a = Form.one("a")
+>>> rack = Rack(Gauge("x", a, radius=2), Gauge("y", a, radius=1), Gauge("z", a, radius=3))
+>>> told = {"x": 10, "y": 13, "z": 40}
+>>> str(rack.possible(told, 1)), rack.least_liars(told), rack.sure_liars(told, 1), rack.clashes(told)
+('[12, 12]', 1, ['z'], [('x', 'z'), ('y', 'z')])
+"""),
+    ("tracks", r"""
+>>> from metehouse.forms import Form
+>>> from metehouse.gauges import Gauge
+>>> from metehouse.pieces import Pieces
+>>> from metehouse.tracks import Track
+>>> track = Track("a", Pieces.between(0, 100), pace=3)
+>>> gauge = Gauge("g", Form.one("a"), radius=1)
+>>> str(track.record((gauge, 10))), str(track.record((gauge, 14))), str(track.smoothed(0))
+('[9, 11]', '[13, 14]', '[10, 11]')
+"""),
+    ("ranks", r"""
+>>> from metehouse.ranks import worst_miss
+>>> worst_miss([1, 4, 2], 1, 1), worst_miss([1, 4, 2], 0, 1)
+((4, 4), (2, None))
+"""),
 ]
 
 
