@@ -239,7 +239,8 @@ class Pieces:
         return Pieces(*found)
 
     def __or__(self, other):
-        return Pieces(*self.parts, *other.parts)
+        found = [*self.parts, *other.parts]
+        return Pieces(*found)
 
     def __sub__(self, other):
         found = in_both(self.parts, uncovered(other.parts))

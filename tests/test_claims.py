@@ -171,6 +171,7 @@ class TestAsking(Case):
     def test_a_quantity_is_missing_whatever_else_is_said(self):
         self.refused(NoQuantity, self.claim, {}, has={"name": "a"})
         self.refused(NoQuantity, self.claim, {"a": (-5, 1), "b": (0, 1), "c": (0, 1)}, has={"name": "q"})
+        self.refused(NoQuantity, Both(AtMost(B), Not(Same(A))), {}, has={"name": "a"})
         self.refused(NoQuantity, Both(Either(), AtMost(A)), {"b": (0, 1)}, has={"name": "a"})
         self.refused(NoQuantity, Either(Both(), AtMost(A)), {"b": (0, 1)}, has={"name": "a"})
 

@@ -1,0 +1,116 @@
+"""What the interface lists exists as it is written: in its module, with its arguments, in its class."""
+
+import importlib
+import inspect
+import unittest
+
+from metehouse.claims import Claim
+from metehouse.house import House
+
+FUNCTIONS = {
+    "exact": "common(*numbers) ratio(top,bottom=1) compare(first,second) plus(first,second) times(first,second)",
+    "forms": "is_word(text) is_quantity(text) make_form(*constants,**weights)",
+    "claims": "within(form,low,high)",
+    "linear": "holds(rows,world) closes(rows,weights) settle(rows) greatest(rows,form)",
+    "pieces": "shared(lots,most)",
+    "ranks": "ranked(forms,place,index) worst_miss(radii,place,liars)",
+    "grids": "shape_value(shape,time)",
+}
+CLASSES = {
+    "forms": ["Form(terms=(),constant=0)"],
+    "claims": ["AtMost(form,bound=0)", "Below(form,bound=0)", "Same(form,bound=0)", "Not(claim)", "Both(*claims)",
+               "Either(*claims)"],
+    "pieces": ["Pieces(*stretches)"],
+    "instruments": ["LateGauge(name,*forms,radius=0)", "Balance(name,left,right,*,dead=0)"],
+    "gauges": ["Gauge(name,form,*,radius=0)", "CoarseGauge(name,form,*,step,radius=0)"],
+    "racks": ["Rack(*gauges)"],
+    "tracks": ["Track(word,start,*,pace=0,most=0)"],
+    "grids": ["Grid(name,rows,columns,*,drift=())", "Well(name,grid,row,column,form,*,time=0)"],
+    "house": ["House(*,limit=100)"],
+}
+METHODS = {
+    "forms.Form": "names() put(name,form)",
+    "claims.Claim": "ways() names() put(name,form)",
+    "pieces.Pieces": "claim(form) inside(other) grown(below,above) some()",
+    "instruments.Instrument": "says(told) names() tellings()",
+    "gauges.Gauge": "room(told)",
+    "racks.Rack": "names() possible(readings,most) least_liars(readings) blame(readings,number) "
+                  "sure_liars(readings,most) sure_honest(readings,most) clashes(readings)",
+    "tracks.Track": "record(*tellings) at(tick) smoothed(tick) tell_late(tick,gauge,told) undo() story(number) ticks()",
+    "grids.Grid": "effects() total(row,column,form,time=0)",
+    "house.House": "allow(budget,most) place(instrument,section,budget=None) read(name,told) learn(claim,section) "
+                   "drop(name,index) change(limit) undo() redo() history() run(*deeds) names() sections() budgets() "
+                   "readings(name) section_of(name) budget_of(name) instrument(name) facts() quantities() says(name) "
+                   "part(*sections) blaming(*names) keeping(*things) twin()",
+}
+STATIC = {"forms.Form": "one(name) gap(first,second)", "pieces.Pieces": "none() every() point(value) between(low,high)"}
+SPECIAL = {
+    "forms.Form": "add radd sub rsub neg mul rmul eq contains getitem len str iter call",
+    "claims.Claim": "invert and or eq str call",
+    "pieces.Pieces": "and or sub invert eq contains len bool str iter",
+    "instruments.Instrument": "eq str",
+    "racks.Rack": "len contains",
+    "tracks.Track": "len",
+    "grids.Grid": "eq",
+    "house.House": "len contains",
+}
+
+
+def split(text):
+    word, _, rest = text.partition("(")
+    return word, "(" + rest
+
+
+def shape(call, skip=0):
+    """The parameters of a function, as the interface writes them."""
+    parameters = list(inspect.signature(call).parameters.values())[skip:]
+    return str(inspect.Signature(parameters)).replace(" ", "")
+
+
+def owner_of(path):
+    module, word = path.split(".")
+    return getattr(importlib.import_module("metehouse." + module), word)
+
+
+class TestInterface(unittest.TestCase):
+    def test_functions(self):
+        for module, text in FUNCTIONS.items():
+            found = importlib.import_module("metehouse." + module)
+            for one in text.split():
+                word, expected = split(one)
+                self.assertEqual(shape(getattr(found, word)), expected, one)
+                self.assertEqual(getattr(found, word).__module__, found.__name__)
+
+    def test_classes(self):
+        for module, texts in CLASSES.items():
+            found = importlib.import_module("metehouse." + module)
+            for one in texts:
+                word, expected = split(one)
+                self.assertEqual(shape(getattr(found, word)), expected, one)
+                self.assertEqual(getattr(found, word).__module__, found.__name__)
+
+    def test_methods_stand_in_the_class_itself(self):
+        for path, text in METHODS.items():
+            for one in text.split():
+                word, expected = split(one)
+                self.assertEqual(shape(vars(owner_of(path))[word], 1), expected, (path, one))
+        for path, text in SPECIAL.items():
+            for word in text.split():
+                self.assertIn(f"__{word}__", vars(owner_of(path)), path)
+        for path, text in STATIC.items():
+            for one in text.split():
+                word, expected = split(one)
+                self.assertIsInstance(vars(owner_of(path))[word], staticmethod)
+                self.assertEqual(shape(getattr(owner_of(path), word)), expected)
+
+    def test_properties_and_class_values(self):
+        self.assertIsInstance(vars(House)["limit"], property)
+        self.assertIsInstance(vars(owner_of("tracks.Track"))["now"], property)
+        self.assertEqual((House.MOST_DEEDS, Claim.MOST_DEPTH, Claim.MOST_WAYS), (200, 8, 64))
+
+    def test_ticks_is_a_generator(self):
+        self.assertTrue(inspect.isgeneratorfunction(owner_of("tracks.Track").ticks))
+
+
+if __name__ == "__main__":
+    unittest.main()
