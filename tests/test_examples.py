@@ -77,6 +77,13 @@ raises BadReading(name='g', told=12)
 >>> worst_miss([1, 4, 2], 1, 1), worst_miss([1, 4, 2], 0, 1)
 ((4, 4), (2, None))
 """),
+    ("cancelling", r"""
+>>> from metehouse.cancelling import cancel, rings
+>>> from metehouse.forms import Form
+>>> lines = [Form.gap("a", "b"), Form.gap("b", "c"), Form.gap("a", "c")]
+>>> cancel(lines[:2], Form.gap("a", "c")), list(rings(lines))
+(('weights', 1, [1, 1]), [[-1, -1, 1]])
+"""),
 ]
 
 

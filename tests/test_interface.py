@@ -15,6 +15,12 @@ FUNCTIONS = {
     "pieces": "shared(lots,most)",
     "ranks": "ranked(forms,place,index) worst_miss(radii,place,liars)",
     "grids": "shape_value(shape,time)",
+    "cancelling": "cancel(lines,target) rings(lines) rank(lines) steady(lines,target)",
+    "plates": "clash(plate,readings) measure(plate,readings,target)",
+    "spoilt": "spoilt(plate,readings,*,most=1)",
+    "islands": "islands(plate,form)",
+    "controls": "fewest(plate,places,form,*targets)",
+    "chords": "between(f,g,h) highest(f,*others) as_often(f,g,h,k) more_often(f,g,h,k)",
 }
 CLASSES = {
     "forms": ["Form(terms=(),constant=0)"],
@@ -26,6 +32,8 @@ CLASSES = {
     "racks": ["Rack(*gauges)"],
     "tracks": ["Track(word,start,*,pace=0,most=0)"],
     "grids": ["Grid(name,rows,columns,*,drift=())", "Well(name,grid,row,column,form,*,time=0)"],
+    "plates": ["Plate(grid,spots,*,times=None)"],
+    "forks": ["Fork(name,first,second,*,blur=0)"],
     "house": ["House(*,limit=100)"],
 }
 METHODS = {
@@ -38,6 +46,7 @@ METHODS = {
                   "sure_liars(readings,most) sure_honest(readings,most) clashes(readings)",
     "tracks.Track": "record(*tellings) at(tick) smoothed(tick) tell_late(tick,gauge,told) undo() story(number) ticks()",
     "grids.Grid": "effects() total(row,column,form,time=0)",
+    "plates.Plate": "lines() wells(prefix) without(*indexes) turned()",
     "house.House": "allow(budget,most) place(instrument,section,budget=None) read(name,told) learn(claim,section) "
                    "drop(name,index) change(limit) undo() redo() history() run(*deeds) names() sections() budgets() "
                    "readings(name) section_of(name) budget_of(name) instrument(name) facts() quantities() says(name) "
@@ -52,6 +61,7 @@ SPECIAL = {
     "racks.Rack": "len contains",
     "tracks.Track": "len",
     "grids.Grid": "eq",
+    "plates.Plate": "len",
     "house.House": "len contains",
 }
 
@@ -108,7 +118,9 @@ class TestInterface(unittest.TestCase):
         self.assertIsInstance(vars(owner_of("tracks.Track"))["now"], property)
         self.assertEqual((House.MOST_DEEDS, Claim.MOST_DEPTH, Claim.MOST_WAYS), (200, 8, 64))
 
-    def test_ticks_is_a_generator(self):
+    def test_generators(self):
+        for path in ("cancelling.rings",):
+            self.assertTrue(inspect.isgeneratorfunction(owner_of(path)), path)
         self.assertTrue(inspect.isgeneratorfunction(owner_of("tracks.Track").ticks))
 
 
