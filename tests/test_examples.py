@@ -84,6 +84,37 @@ raises BadReading(name='g', told=12)
 >>> cancel(lines[:2], Form.gap("a", "c")), list(rings(lines))
 (('weights', 1, [1, 1]), [[-1, -1, 1]])
 """),
+    ("strikes", r"""
+>>> from metehouse.strikes import Strikes
+>>> strikes = Strikes(("a", "b", 1), ("b", "c", 2), ("c", "d", 2), ("d", "b", 0))
+>>> strikes.blocks(), strikes.joints(), strikes.walk("a", "d")
+([[0], [1, 2, 3]], ['b'], [0, 3])
+"""),
+    ("nets", r"""
+>>> from metehouse.nets import Net
+>>> net = Net.fence("w", 3, 2) + Net([("w.0", "w.2", 3, "<")])
+>>> net.bound("w.0", "w.2"), net.chain("w.0", "w.2"), net.bound("w.2", "w.0"), net.bound(None, "w.0")
+((3, '<'), [4], (4, '<='), None)
+"""),
+    ("misreads", r"""
+>>> from metehouse.misreads import fewest_misread, heights
+>>> from metehouse.nets import Net
+>>> net = Net.fence("w", 2, 2) + Net.box("w.0", 0, 20)
+>>> trials = [("w.0", "missed", 9), ("w.1", "reached", 5)]
+>>> fewest_misread(net, trials), str(heights(net, trials, "w.0", 1))
+(1, '[0, 7] (9, 20]')
+"""),
+    ("tables", r"""
+>>> from metehouse.tables import Table
+>>> table = Table.race(1)
+>>> str(table), table.word_after("rmr"), table.sound(1), table.longest(0)
+('3 0 2 missed 1 2 missed 2 0 reached 2 1 reached', 'reached', None, 2)
+"""),
+    ("tables", r"""
+>>> from metehouse.tables import Table
+>>> Table(2, {(2, 0): "reached", (0, 2): "missed"})
+raises BadTable(fault='gap')
+"""),
 ]
 
 

@@ -20,6 +20,11 @@ FUNCTIONS = {
     "spoilt": "spoilt(plate,readings,*,most=1)",
     "islands": "islands(plate,form)",
     "controls": "fewest(plate,places,form,*targets)",
+    "tunings": "tunings(strikes) count_tunings(strikes) turned(strikes,rises,index) "
+               "possible_beats(strikes,first,second)",
+    "ladders": "reach(length,foot=0) farthest(length,height)",
+    "misreads": "is_blame(net,trials,blame) fewest_misread(net,trials) find_blames(net,trials) "
+                "find_suspects(net,trials) best_world(net,trials) heights(net,trials,name,most)",
     "chords": "between(f,g,h) highest(f,*others) as_often(f,g,h,k) more_often(f,g,h,k)",
 }
 CLASSES = {
@@ -34,6 +39,11 @@ CLASSES = {
     "grids": ["Grid(name,rows,columns,*,drift=())", "Well(name,grid,row,column,form,*,time=0)"],
     "plates": ["Plate(grid,spots,*,times=None)"],
     "forks": ["Fork(name,first,second,*,blur=0)"],
+    "strikes": ["Strikes(*rows)"],
+    "ladders": ["Ladder(name,form,*,length,foot=0)"],
+    "nets": ["Net(limits=())"],
+    "closures": ["Closure(net)"],
+    "tables": ["Table(limit,ends)"],
     "house": ["House(*,limit=100)"],
 }
 METHODS = {
@@ -47,12 +57,21 @@ METHODS = {
     "tracks.Track": "record(*tellings) at(tick) smoothed(tick) tell_late(tick,gauge,told) undo() story(number) ticks()",
     "grids.Grid": "effects() total(row,column,form,time=0)",
     "plates.Plate": "lines() wells(prefix) without(*indexes) turned()",
+    "strikes.Strikes": "names() claims() lots() walk(first,second) blocks() block(index) joints() rises(world) "
+                       "residues(world)",
+    "nets.Net": "names() claims() find_ring() bound(first,second) chain(first,second) levels()",
+    "closures.Closure": "names() bound(first,second) room(name) apart(first,second) net() inside(other)",
+    "tables.Table": "ends() word_after(tries) stops() sound(wrong) longest(wrong) softened(wrong)",
     "house.House": "allow(budget,most) place(instrument,section,budget=None) read(name,told) learn(claim,section) "
                    "drop(name,index) change(limit) undo() redo() history() run(*deeds) names() sections() budgets() "
                    "readings(name) section_of(name) budget_of(name) instrument(name) facts() quantities() says(name) "
                    "part(*sections) blaming(*names) keeping(*things) twin()",
 }
-STATIC = {"forms.Form": "one(name) gap(first,second)", "pieces.Pieces": "none() every() point(value) between(low,high)"}
+STATIC = {
+    "forms.Form": "one(name) gap(first,second)",
+    "pieces.Pieces": "none() every() point(value) between(low,high)",
+    "nets.Net": "box(name,low,high) fence(word,count,pace)",
+}
 SPECIAL = {
     "forms.Form": "add radd sub rsub neg mul rmul eq contains getitem len str iter call",
     "claims.Claim": "invert and or eq str call",
@@ -62,6 +81,10 @@ SPECIAL = {
     "tracks.Track": "len",
     "grids.Grid": "eq",
     "plates.Plate": "len",
+    "strikes.Strikes": "add eq len",
+    "nets.Net": "add eq",
+    "closures.Closure": "contains and or eq",
+    "tables.Table": "eq str",
     "house.House": "len contains",
 }
 
@@ -113,13 +136,17 @@ class TestInterface(unittest.TestCase):
                 self.assertIsInstance(vars(owner_of(path))[word], staticmethod)
                 self.assertEqual(shape(getattr(owner_of(path), word)), expected)
 
+    def test_class_methods(self):
+        self.assertIsInstance(vars(owner_of("tables.Table"))["race"], classmethod)
+        self.assertEqual(shape(owner_of("tables.Table").race), "(wrong)")
+
     def test_properties_and_class_values(self):
         self.assertIsInstance(vars(House)["limit"], property)
         self.assertIsInstance(vars(owner_of("tracks.Track"))["now"], property)
         self.assertEqual((House.MOST_DEEDS, Claim.MOST_DEPTH, Claim.MOST_WAYS), (200, 8, 64))
 
     def test_generators(self):
-        for path in ("cancelling.rings",):
+        for path in ("cancelling.rings", "tunings.tunings"):
             self.assertTrue(inspect.isgeneratorfunction(owner_of(path)), path)
         self.assertTrue(inspect.isgeneratorfunction(owner_of("tracks.Track").ticks))
 

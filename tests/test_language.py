@@ -195,6 +195,33 @@ class TestStatements(unittest.TestCase):
                     if isinstance(node, ast.Attribute) and node.attr in changers:
                         self.assertNotEqual(ast.unparse(node.value), text, place)
 
+    def test_what_is_iterated_at_once(self):
+        generators = {node.name for tree in TREES.values() for node in functions(tree)
+                      if any(isinstance(part, (ast.Yield, ast.YieldFrom)) for part in ast.walk(node))}
+        takers = ("list", "tuple", "dict", "sorted", "sum", "enumerate", "zip")
+        for name, tree in TREES.items():
+            for parent in ast.walk(tree):
+                for node in ast.iter_child_nodes(parent):
+                    if not isinstance(node, ast.Call):
+                        continue
+                    word = node.func.id if isinstance(node.func, ast.Name) else node.func.attr
+                    if word not in {"range", "zip", "enumerate", "reversed", "items", "keys", "values"} | generators:
+                        continue
+                    place = f"{name}:{node.lineno}"
+                    if isinstance(parent, (ast.For, ast.comprehension)):
+                        self.assertIs(parent.iter, node, place)
+                    else:
+                        self.assertIsInstance(parent, ast.Call, place)
+                        self.assertIn(parent.func.id, takers, place)
+
+    def test_stars_in_calls(self):
+        for name, tree in TREES.items():
+            for node in ast.walk(tree):
+                if isinstance(node, ast.Call):
+                    for part in [part.value for part in node.args if isinstance(part, ast.Starred)]:
+                        self.assertIsInstance(part, (ast.Name, ast.Attribute, ast.List, ast.Tuple), name)
+                    self.assertNotIn(None, [word.arg for word in node.keywords], name)
+
 
 class TestNames(unittest.TestCase):
     def test_imports(self):
