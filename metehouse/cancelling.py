@@ -78,13 +78,13 @@ class Echelon:
 
 
 def whole_moves(moves):
-    """Ratios that are not all 0, as integers with the greatest common divisor 1."""
+    """Ratios as integers with the greatest common divisor 1; one of the ratios is 1 or -1."""
     whole = 1
     for _, bottom in moves.values():
         whole = lcm(whole, bottom)
-    numbers = [top * (whole // bottom) for top, bottom in moves.values()]
-    divisor = common(*numbers)
-    return {name: number // divisor for name, number in zip(list(moves), numbers)}
+    # The 1 becomes whole, and whole is the least number that all bottoms divide, so
+    # nothing is left to divide by.
+    return {name: top * (whole // bottom) for name, (top, bottom) in moves.items()}
 
 
 def echelon_of(lines):

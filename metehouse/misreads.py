@@ -93,8 +93,8 @@ def cover_of(pairs):
     """As few trials as the greatest matching has pairs, so that each pair has one of them."""
     partners = matched(pairs)
     taken = list(partners.values())
-    todo = [m for m, _ in pairs if m not in taken]
-    left, right = {m: True for m in todo}, {}
+    left, right = {m: True for m, _ in pairs if m not in taken}, {}
+    todo = list(left)
     while todo:
         start = todo[0]
         todo = todo[1:]

@@ -163,9 +163,9 @@ class Net:
             raise NoNet(ring)
         spots = [None, *self.names()]
         sums, _, _ = least_sums(self.limits, spots, len(spots))
-        # A sum has less than this number of limits with "<", so all the parts that stand
+        # A sum has fewer limits with "<" than there are spots, so the parts of 1 that stand
         # for them stay below 1 together, and the integers leave room for them.
-        share = len(spots) + 1
+        share = len(spots)
         low, strict = sums[None]
         return {name: ratio((sums[name][0] - low) * share + sums[name][1] - strict, share) for name in spots[1:]}
 

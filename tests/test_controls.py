@@ -77,6 +77,13 @@ class TestFewest(Case):
         self.assertEqual([change(line, moves) for line in lines], [0, 0])
         self.assertGreater(change(b, moves), 0)
 
+    def test_nothing_is_modified(self):
+        plate, places = Plate(Grid("g", 2, 2), [(0, 0, a)]), [(0, 0), (1, 1)]
+        spots = plate.spots
+        fewest(plate, places, Form(), a)
+        self.assertRaises(NotTold, fewest, plate, places, Form(), b)
+        self.assertEqual((places, plate.spots, len(plate)), ([(0, 0), (1, 1)], spots, 1))
+
     def test_many(self):
         chance = random.Random(46)
         sizes = set()

@@ -6,7 +6,7 @@ from math import gcd
 from metehouse.claims import AtMost, Below
 from metehouse.errors import BadName, BadNumber, BadSign, NoNet, NoQuantity, Taken
 from metehouse.forms import Form
-from metehouse.nets import Net, gap_form
+from metehouse.nets import SIGNS, Net, gap_form
 from tests.helping import Case
 from tests.netting import has_world, is_chain, is_ring, linear_bound, open_net, plain_bound, some_net, sum_of
 
@@ -63,6 +63,7 @@ class TestNet(Nets):
         self.assertEqual((one + two).limits, (("a", "b", 1, "<="), (None, "b", 2, "<")))
         self.assertTrue(one + two == Net([("a", "b", 1, "<="), (None, "b", 2, "<")]))
         self.assertTrue(Net() + Net() == Net())
+        self.assertRaises(TypeError, lambda: one + [])
         for other in (two + one, one, Net([("a", "b", 1, "<"), (None, "b", 2, "<")]), (one + two).limits, None):
             self.assertFalse(one + two == other)
 
@@ -111,6 +112,16 @@ class TestRings(Nets):
         self.assertTrue(is_ring(Net(limits), ring))
         self.assertEqual(len(ring), 30)
         self.assertTrue(is_ring(Net(limits[::-1]), Net(limits[::-1]).find_ring()))
+
+    def test_strict_limits_one_after_another(self):
+        names = [None, *[f"n{k}" for k in range(9)]]
+        for sign in SIGNS:
+            for turn in (1, -1):
+                ends = names[::turn]
+                limits = [(first, second, 0, "<") for first, second in zip(ends, ends[1:])]
+                self.check_levels(Net([*limits, (ends[-1], ends[0], 1, sign)]))
+                self.refused_net(Net([*limits, (ends[-1], ends[0], 0, sign)]),
+                                 Net([*limits, (ends[-1], ends[0], 0, sign)]).levels)
 
     def test_many(self):
         chance = random.Random(59)

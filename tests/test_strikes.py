@@ -100,6 +100,7 @@ class TestStrikes(Case):
         five = Strikes(*[("a", "b", 1)] * 5)
         self.assertEqual(len(five + five), 10)
         self.refused(TooMany, lambda: five + five + two, has={"what": "strikes", "most": 10})
+        self.assertRaises(TypeError, lambda: one + one.rows)
         self.assertEqual((one.rows, len(five)), ((("a", "b", 1), ("b", "c", 2)), 5))
 
     def test_equal(self):

@@ -68,8 +68,9 @@ class TestTable(Case):
 
     def test_faults(self):
         for limit in (0, 13, -1, HUGE):
-            self.refused(BadTable, Table, limit, {(-1, 0): "no"}, has={"fault": "limit"})
-            self.refused(BadTable, Table, limit, SMALL, has={"fault": "limit"})
+            for ends in (SMALL, {(-1, 0): "no"}, {**SMALL, (0, 0): "reached"}, {**SMALL, (1, 1): "no"}, {},
+                         {(1, 0): "reached"}):
+                self.refused(BadTable, Table, limit, ends, has={"fault": "limit"})
         for count in ((-1, 2), (2, -1), (0, 0), (3, 0), (1, 2), (HUGE, 1)):
             self.refused(BadTable, Table, 2, {(1, 0): "no", count: "reached"}, has={"fault": "count"})
             self.refused(BadTable, Table, 2, {count: "no", (1, 0): "no"}, has={"fault": "count"})
