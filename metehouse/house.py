@@ -306,6 +306,22 @@ class House:
         facts = tuple([fact for index, fact in enumerate(held.learned) if ("fact", index) in things])
         return self.with_contents(Contents(held.shares, left, facts))
 
+    def allowing(self, budget, most):
+        """A house in which a budget that is set has this number."""
+        return self.with_contents(self._contents.with_share(budget, most))
+
+    def hearing(self, name, told):
+        """A house in which a placed instrument has a further reading, one that it can tell."""
+        placed = self.placed_as(name)
+        return self.with_contents(self._contents.with_placed(name, placed.with_told((*placed.told, told))))
+
+    def muting(self, *names):
+        """A house in which these instruments have no readings."""
+        contents = self._contents
+        for name in names:
+            contents = contents.with_placed(name, self.placed_as(name).with_told(()))
+        return self.with_contents(contents)
+
     def twin(self):
         """The same house, with the same deeds in force and undone."""
         house = self.with_contents(self._contents)

@@ -34,9 +34,9 @@ def lean_sum(bottom, weights):
     return (bottom // divisor, {number: weight // divisor for number, weight in weights.items()})
 
 
-def blended(weights, factor, more, more_factor):
-    """The weights of two sums, each times its factor, added."""
-    total = {number: weight * factor for number, weight in weights.items()}
+def blended(weights, factor, more, more_factor, left_out=None):
+    """The weights of two sums, each times its factor, added; one part of the first is left out."""
+    total = {number: weight * factor for number, weight in weights.items() if number != left_out}
     for number, weight in more.items():
         found = total.get(number, 0) + weight * more_factor
         if found == 0:
@@ -69,6 +69,11 @@ class Tableau:
         self.highs = [None for _ in names]
         self.basis = {}
         self.broken = None
+        self.sums = {}
+        # Sums that have no bounds now: nothing is known of them, until they are asked for again.
+        self.asleep = {}
+        # For each bound that came in: its variable, True for an upper one, and the bound before it.
+        self.trail = []
 
     def variable(self, terms):
         """The number of the variable for these terms, which are normal."""
@@ -76,26 +81,69 @@ class Tableau:
             return self.numbers[terms[0][0]]
         if terms not in self.known_sums:
             self.known_sums[terms] = self.new_basic(terms)
-        return self.known_sums[terms]
+        number = self.known_sums[terms]
+        if number in self.asleep:
+            del self.asleep[number]
+            self.make_basic(number)
+        return number
 
     def new_basic(self, terms):
         """The number of a new basic variable, the sum of the terms."""
         number = len(self.worth)
+        self.sums[number] = terms
+        self.worth.append(NOUGHT)
+        self.lows.append(None)
+        self.highs.append(None)
+        self.make_basic(number)
+        return number
+
+    def make_basic(self, number):
+        """Make a sum basic: write it with the variables that are not."""
         bottom, weights = 1, {}
-        for name, weight in terms:
+        for name, weight in self.sums[number]:
             part = self.numbers[name]
             part_bottom, part_weights = self.basis.get(part, (1, {part: 1}))
             whole = lcm(bottom, part_bottom)
             weights = blended(weights, whole // bottom, part_weights, weight * (whole // part_bottom))
             bottom = whole
         self.basis[number] = lean_sum(bottom, weights)
+        self.worth[number] = self.sum_worth(number)
+
+    def sum_worth(self, number):
+        """The worth of a sum, from those of its quantities."""
         level = NOUGHT
-        for part, weight in weights.items():
-            level = moved(level, self.worth[part], weight, bottom)
-        self.worth.append(level)
-        self.lows.append(None)
-        self.highs.append(None)
-        return number
+        for name, weight in self.sums[number]:
+            level = moved(level, self.worth[self.numbers[name]], weight, 1)
+        return level
+
+    def set_mark(self):
+        """What `back` needs to take later bounds back; all variables are within their bounds now."""
+        return (len(self.trail), list(self.worth))
+
+    def back(self, mark):
+        """Take back all bounds that came in since the mark; all variables are within theirs again."""
+        count, worth = mark
+        touched = {}
+        while len(self.trail) > count:
+            number, above, bound = self.trail.pop()
+            touched[number] = True
+            if above:
+                self.highs[number] = bound
+            else:
+                self.lows[number] = bound
+        self.worth = worth + self.worth[len(worth):]
+        for number in touched:
+            if number in self.sums and self.lows[number] is None and self.highs[number] is None:
+                self.let_go(number)
+        self.broken = None
+
+    def let_go(self, number):
+        """Forget a sum that has no bounds any more, or find its worth again if others are written with it."""
+        if number in self.basis:
+            del self.basis[number]
+            self.asleep[number] = True
+        else:
+            self.worth[number] = self.sum_worth(number)
 
     def bound_by(self, row, form, sign):
         """Bound a variable by the row with this index: the form is at most 0, less than 0, or 0."""
@@ -108,10 +156,12 @@ class Tableau:
         if sign == "=" or factor > 0:
             high = self.highs[number]
             if high is None or order(bound[0], high[0]) < 0:
+                self.trail.append((number, True, high))
                 self.highs[number] = bound
         if sign == "=" or factor < 0:
             low = self.lows[number]
             if low is None or order(bound[0], low[0]) > 0:
+                self.trail.append((number, False, low))
                 self.lows[number] = bound
         self.keep_between(number)
 
@@ -169,8 +219,7 @@ class Tableau:
             if entering in row:
                 divisor = gcd(factor, row[entering])
                 own, more = abs(factor) // divisor, row[entering] // divisor
-                kept = {number: weight for number, weight in row.items() if number != entering}
-                self.basis[basic] = lean_sum(row_bottom * own, blended(kept, own, rest, more))
+                self.basis[basic] = lean_sum(row_bottom * own, blended(row, own, rest, more, entering))
         self.basis[entering] = (abs(factor), rest)
 
     def fit(self):
