@@ -29,25 +29,25 @@ def number_of(text):
     return number if str(number) == text else None
 
 
-def part_of(words):
-    """The term or the constant at the beginning of the words, a pair (name or None, size), and the rest."""
-    if is_quantity(words[0]):
-        return (words[0], 1), words[1:]
-    size = number_of(words[0])
+def part_of(words, at):
+    """The term or the constant that begins at a word, a pair (name or None, size), and the place behind it."""
+    if is_quantity(words[at]):
+        return (words[at], 1), at + 1
+    size = number_of(words[at])
     if size is None:
-        return None, []
-    if len(words) > 1 and is_quantity(words[1]):
-        return (words[1], size), words[2:]
-    return (None, size), words[1:]
+        return None, at
+    if at + 1 < len(words) and is_quantity(words[at + 1]):
+        return (words[at + 1], size), at + 2
+    return (None, size), at + 1
 
 
 def form_of(text):
     """The form that is written so."""
     negative = text.startswith("-")
     words = (text[1:] if negative else text).split(" ")
-    terms, constant = [], 0
+    terms, constant, at = [], 0, 0
     while True:
-        part, words = part_of(words)
+        part, at = part_of(words, at)
         if part is None:
             return None
         name, size = part
@@ -57,12 +57,12 @@ def form_of(text):
             constant = constant + size
         else:
             terms.append((name, size))
-        if len(words) == 0:
+        if at == len(words):
             return Form(terms, constant)
-        if len(words) == 1 or words[0] not in ("+", "-"):
+        if at + 1 == len(words) or words[at] not in ("+", "-"):
             return None
-        negative = words[0] == "-"
-        words = words[1:]
+        negative = words[at] == "-"
+        at += 1
 
 
 def forms_of(texts):

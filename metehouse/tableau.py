@@ -72,6 +72,8 @@ class Tableau:
         self.sums = {}
         # Sums that have no bounds now: nothing is known of them, until they are asked for again.
         self.asleep = {}
+        # Sums without bounds that others were written with when their bounds went.
+        self.loose = {}
         # For each bound that came in: its variable, True for an upper one, and the bound before it.
         self.trail = []
 
@@ -132,7 +134,7 @@ class Tableau:
             else:
                 self.lows[number] = bound
         self.worth = worth + self.worth[len(worth):]
-        for number in touched:
+        for number in [*touched, *self.loose]:
             if number in self.sums and self.lows[number] is None and self.highs[number] is None:
                 self.let_go(number)
         self.broken = None
@@ -142,8 +144,10 @@ class Tableau:
         if number in self.basis:
             del self.basis[number]
             self.asleep[number] = True
-        else:
+        elif number not in self.asleep:
+            # It may have been asleep at the mark, which then does not know its worth.
             self.worth[number] = self.sum_worth(number)
+            self.loose[number] = True
 
     def bound_by(self, row, form, sign):
         """Bound a variable by the row with this index: the form is at most 0, less than 0, or 0."""

@@ -115,6 +115,21 @@ raises BadReading(name='g', told=12)
 >>> Table(2, {(2, 0): "reached", (0, 2): "missed"})
 raises BadTable(fault='gap')
 """),
+    ("races", r"""
+>>> from metehouse.races import quickest
+>>> str(quickest(1, 2))
+'2 0 2 missed 1 1 unsure 2 0 reached'
+"""),
+    ("reading", r"""
+>>> from metehouse.reading import read_claim, read_form
+>>> str(read_form("a - 2 b + 3")), str(read_claim("either (a < 0) (not (b = 0))"))
+('a - 2 b + 3', 'either (a < 0) (not (b = 0))')
+"""),
+    ("reading", r"""
+>>> from metehouse.reading import read_form
+>>> read_form("b - a")
+raises BadText(text='b - a')
+"""),
 ]
 
 

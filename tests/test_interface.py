@@ -6,6 +6,7 @@ import unittest
 
 from metehouse.claims import Claim
 from metehouse.house import House
+from metehouse.spans import MOST_PIECES
 
 FUNCTIONS = {
     "exact": "common(*numbers) ratio(top,bottom=1) compare(first,second) plus(first,second) times(first,second)",
@@ -26,6 +27,19 @@ FUNCTIONS = {
     "misreads": "is_blame(net,trials,blame) fewest_misread(net,trials) find_blames(net,trials) "
                 "find_suspects(net,trials) best_world(net,trials) heights(net,trials,name,most)",
     "chords": "between(f,g,h) highest(f,*others) as_often(f,g,h,k) more_often(f,g,h,k)",
+    "races": "quickest(wrong,limit)",
+    "rehearsals": "attempt(house,act)",
+    "reading": "read_form(text) read_claim(text) read_table(text) read_instrument(text)",
+    "writing": "write_house(house) read_house(text) replay(lines) roll(house)",
+    "cases": "closed(house,*given) find_world(house,*given) fits(house,world) liars(house,world)",
+    "checking": "checks(house,tree,*given)",
+    "judging": "judge(house,claim) word(house,claim) escapes(house,other) differ(first,second)",
+    "spans": "span(house,form,*given) rank_span(house,place,target,*forms) signings(house,*forms)",
+    "lies": "least_liars(house,budget) honesty(house) suspects(house,budget,*,most=2)",
+    "grounds": "ground(house,claim) check_ground(house,claim,ground) needed(house,claim)",
+    "boards": "board(house,slips) check_lot(house,slips,lot) beyond(house,slips) lend(house,claim,source,target)",
+    "plans": "plan(house,claim,*names)",
+    "stopping": "stop(house,name,tries='') endings(house,name)",
 }
 CLASSES = {
     "forms": ["Form(terms=(),constant=0)"],
@@ -45,6 +59,10 @@ CLASSES = {
     "closures": ["Closure(net)"],
     "tables": ["Table(limit,ends)"],
     "house": ["House(*,limit=100)"],
+    "runs": ["Run(name,form,*,length,foot=0,table,wrong=0)"],
+    "rehearsals": ["Rehearsal(house)"],
+    "grounds": ["Ground(things,tree,worlds)"],
+    "boards": ["Lot(known,steps,doubts)"],
 }
 METHODS = {
     "forms.Form": "names() put(name,form)",
@@ -61,6 +79,7 @@ METHODS = {
                        "residues(world)",
     "nets.Net": "names() claims() find_ring() bound(first,second) chain(first,second) levels()",
     "closures.Closure": "names() bound(first,second) room(name) apart(first,second) net() inside(other)",
+    "runs.Run": "says(told)",
     "tables.Table": "ends() word_after(tries) stops() sound(wrong) longest(wrong) softened(wrong)",
     "house.House": "allow(budget,most) place(instrument,section,budget=None) read(name,told) learn(claim,section) "
                    "drop(name,index) change(limit) undo() redo() history() run(*deeds) names() sections() budgets() "
@@ -86,6 +105,7 @@ SPECIAL = {
     "closures.Closure": "contains and or eq",
     "tables.Table": "eq str",
     "house.House": "len contains",
+    "rehearsals.Rehearsal": "enter exit",
 }
 
 
@@ -144,9 +164,10 @@ class TestInterface(unittest.TestCase):
         self.assertIsInstance(vars(House)["limit"], property)
         self.assertIsInstance(vars(owner_of("tracks.Track"))["now"], property)
         self.assertEqual((House.MOST_DEEDS, Claim.MOST_DEPTH, Claim.MOST_WAYS), (200, 8, 64))
+        self.assertEqual(MOST_PIECES, 12)
 
     def test_generators(self):
-        for path in ("cancelling.rings", "tunings.tunings"):
+        for path in ("cancelling.rings", "tunings.tunings", "spans.signings", "stopping.endings"):
             self.assertTrue(inspect.isgeneratorfunction(owner_of(path)), path)
         self.assertTrue(inspect.isgeneratorfunction(owner_of("tracks.Track").ticks))
 
