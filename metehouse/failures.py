@@ -1,14 +1,6 @@
 """How claims and instruments fail: what must hold for that, as problems have it."""
 
-from metehouse.claims import Claim, Either
-
-
-def merged_choices(lists):
-    """For each choice of one entry of each list the entries, joined."""
-    found = [[]]
-    for entries in lists:
-        found = [chosen + entry for chosen in found for entry in entries]
-    return found
+from metehouse.claims import Claim, Either, joined
 
 
 def failures(claim):
@@ -19,7 +11,7 @@ def failures(claim):
     if claim.failing <= Claim.MOST_WAYS:
         return [[claim.against()]]
     if isinstance(claim, Either):
-        return merged_choices([failures(part) for part in claim.parts])
+        return joined([failures(part) for part in claim.parts])
     # Only one more kind of claim can fail in so many ways: Both, one part of which must fail.
     plain, cases = [], []
     for part in claim.parts:

@@ -114,7 +114,7 @@ class Path:
             self.tableau.bound_by(len(self.rows), form, sign)
             self.rows.append((index, way, number))
 
-    def joined(self, node):
+    def combined(self, node):
         """What refutes the path if each branch of a node behind it is refuted."""
         used = 0
         for branch, (_, part) in enumerate(node.results):

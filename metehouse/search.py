@@ -36,7 +36,7 @@ class Search(Path):
                 if node.open_count() > 0:
                     self.enter(node)
                     return None
-                refuted = self.joined(node)
+                refuted = self.combined(node)
         return refuted
 
     def look_back(self, node):
@@ -60,7 +60,7 @@ class Search(Path):
                 return None
             count = node.open_count()
             if count == 0:
-                return self.joined(node)
+                return self.combined(node)
             if count > 1:
                 node.restore = self.tableau.set_mark()
             self.enter(node)
@@ -74,7 +74,7 @@ class Search(Path):
         for index, demand in enumerate(self.demands):
             if len(demand.choices) < 2 and index not in self.taken and self.must_hold(index):
                 if len(demand.choices) == 0:
-                    return self.joined(Node(index, []))
+                    return self.combined(Node(index, []))
                 self.enter(Node(index, [None]))
         return None
 
@@ -156,7 +156,7 @@ class Search(Path):
         self.held = held
         for index in alone:
             if found is not None and found[1] & self.bit_of(index, 0) != 0:
-                found = self.joined(Node(index, [found]))
+                found = self.combined(Node(index, [found]))
         return found
 
     def clash_among(self, alone):
@@ -176,5 +176,5 @@ class Search(Path):
                 if results[-1] is None:
                     break
             if None not in results:
-                return self.joined(Node(index, results))
+                return self.combined(Node(index, results))
         return None

@@ -353,6 +353,29 @@ class TestClasses(unittest.TestCase):
         for owner in known.values():
             self.assertFalse(attributes(owner) & set(called), (owner.name, attributes(owner) & set(called)))
 
+    def test_attribute_names(self):
+        barred = set("items keys values pop update append clear extend insert remove reverse setdefault sort args encode decode "
+                     "hex fromhex format format_map mro as_integer_ratio bit_count conjugate from_bytes is_integer "
+                     "to_bytes".split()) | (NEVER & set("register mro elements open input law version_info".split()))
+        for owner in all_classes().values():
+            self.assertFalse(attributes(owner) & barred, owner.name)
+            self.assertFalse({method.name for method in methods(owner)} & {"keys"}, owner.name)
+
+    def test_exit_methods_only_put_attributes_back(self):
+        for owner in all_classes().values():
+            for method in [row for row in methods(owner) if row.name == "__exit__"]:
+                for row in method.body:
+                    self.assertIsInstance(row, ast.Assign)
+                    self.assertIsInstance(row.targets[0], ast.Attribute)
+                    self.assertIsInstance(row.value, ast.Attribute)
+
+    def test_generators_yield_plainly(self):
+        for tree in TREES.values():
+            for node in ast.walk(tree):
+                if isinstance(node, (ast.With, ast.Try)):
+                    for part in ast.walk(node):
+                        self.assertNotIsInstance(part, (ast.Yield, ast.YieldFrom))
+
     def test_double_underscore_methods_assign_nothing(self):
         for owner in all_classes().values():
             for method in methods(owner):
