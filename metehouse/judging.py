@@ -57,7 +57,8 @@ def escapes(house, other):
     found = world_with(house, other, [])
     if found is None or not fits(other, found):
         return found
-    cases = [demands for _, claim in other.facts() for demands in failures(claim)]
+    known = [str(claim) for _, claim in house.facts()]
+    cases = [demands for _, claim in other.facts() if str(claim) not in known for demands in failures(claim)]
     cases.extend([[failing_ways(other, name)] for name in other.names() if other.budget_of(name) is None])
     for demands in cases:
         found = world_with(house, other, demands)

@@ -134,7 +134,8 @@ class Tableau:
             else:
                 self.lows[number] = bound
         self.worth = worth + self.worth[len(worth):]
-        for number in [*touched, *self.loose]:
+        doubtful = [*touched, *self.loose]
+        for number in doubtful:
             if number in self.sums and self.lows[number] is None and self.highs[number] is None:
                 self.let_go(number)
         self.broken = None
