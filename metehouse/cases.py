@@ -14,6 +14,12 @@ def solve(problem):
     return (kind, found if kind == "world" else whole_tree(problem, found))
 
 
+def world_of(problem):
+    """A world that solves the problem, or None; no tree is written for it."""
+    kind, found = Search(problem).solve()
+    return found if kind == "world" else None
+
+
 def closed(house, *given):
     """A tree that shows that no world fits the house and satisfies the given claims, or None."""
     kind, found = solve(problem_of(house, given))
@@ -22,8 +28,7 @@ def closed(house, *given):
 
 def find_world(house, *given):
     """A world that fits the house and satisfies the given claims, or None."""
-    kind, found = solve(problem_of(house, given))
-    return found if kind == "world" else None
+    return world_of(problem_of(house, given))
 
 
 def lies(house, name, world):

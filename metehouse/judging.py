@@ -1,6 +1,6 @@
 """Judging: what a house tells of a claim, and what two houses allow."""
 
-from metehouse.cases import fits, solve
+from metehouse.cases import fits, solve, world_of
 from metehouse.claims import Not
 from metehouse.failures import failing_ways, failures
 from metehouse.problems import problem_of
@@ -24,8 +24,16 @@ def judge(house, claim):
 
 
 def word(house, claim):
-    """The word of the judgement."""
-    return judge(house, claim)[0]
+    """The word of the judgement, without its paper."""
+    against = Not(claim)
+    found = world_of(problem_of(house, (), claim.names()))
+    if found is None:
+        return "none"
+    holds = claim(found)
+    other = world_of(problem_of(house, (against if holds else claim,)))
+    if other is not None:
+        return "open"
+    return "sure" if holds else "never"
 
 
 def world_with(house, other, demands):
@@ -33,8 +41,7 @@ def world_with(house, other, demands):
     problem = problem_of(house, (), other.quantities())
     for ways in demands:
         problem.ask(None, ways)
-    kind, found = solve(problem)
-    return found if kind == "world" else None
+    return world_of(problem)
 
 
 def world_over(house, other, budget):
@@ -48,8 +55,7 @@ def world_over(house, other, budget):
     problem.numbers[OTHERS] = honest
     for name in tellers:
         problem.hear(name, OTHERS, [(None, failing_ways(other, name))])
-    kind, found = solve(problem)
-    return found if kind == "world" else None
+    return world_of(problem)
 
 
 def escapes(house, other):

@@ -1,6 +1,6 @@
 """Lies: how many instruments must lie, who lies, and who may be blamed."""
 
-from metehouse.cases import liars, solve
+from metehouse.cases import liars, solve, world_of
 from metehouse.errors import BadLimit, NoWorld, UnknownBudget
 from metehouse.failures import failing_ways
 from metehouse.house import MOST_LIARS
@@ -44,10 +44,10 @@ class Verdicts:
 
     def has_world(self, house, asked):
         """True if a world fits this house in which the demands hold; it fits the own house, too."""
-        kind, found = solve(problem_of(house, ()).with_demands(*asked))
-        if kind == "world":
+        found = world_of(problem_of(house, ()).with_demands(*asked))
+        if found is not None:
             self.seen.append(liars(self.house, found))
-        return kind == "world"
+        return found is not None
 
     def can_lie(self, name):
         """True if the instrument lies in some world that fits."""

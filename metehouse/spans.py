@@ -1,6 +1,6 @@
 """Spans: which values a form has in the worlds that fit a house."""
 
-from metehouse.cases import solve
+from metehouse.cases import solve, world_of
 from metehouse.errors import BadNumber, TooMany, TooWide
 from metehouse.exact import compare
 from metehouse.linear import greatest
@@ -98,8 +98,7 @@ def signed_row(form, sign):
 def world_signed(problem, forms, signs):
     """A world in which the first forms have these signs, or None."""
     rows = [signed_row(form, sign) for form, sign in zip(forms, signs)]
-    kind, found = solve(problem.with_demands((None, [rows])))
-    return found if kind == "world" else None
+    return world_of(problem.with_demands((None, [rows])))
 
 
 def signings(house, *forms):

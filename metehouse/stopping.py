@@ -3,7 +3,7 @@
 from metehouse.claims import AtMost
 from metehouse.errors import NoWorld, NotRun, TooMany
 from metehouse.house import MOST_READINGS
-from metehouse.judging import judge
+from metehouse.judging import judge, word
 from metehouse.runs import Run
 
 # The word of a run for the word of the judgement that it reaches the level.
@@ -24,15 +24,14 @@ def need_space(house, name):
         raise TooMany("readings", MOST_READINGS)
 
 
-def judged(house, run, tries):
-    """The judgement whether the run reaches the level, once the tries were recorded; no tries are no reading."""
-    after = house if tries == "" else house.hearing(run.name, tries)
-    return judge(after, AtMost(run.form, run.height))
+def after_tries(house, run, tries):
+    """The house in which the tries were recorded; no tries are no reading."""
+    return house if tries == "" else house.hearing(run.name, tries)
 
 
-def decided(verdict):
-    """The word of a run that the house has decided, or None."""
-    return ENDS.get(verdict[0])
+def reaches(run):
+    """The claim that the run reaches the level."""
+    return AtMost(run.form, run.height)
 
 
 def stop(house, name, tries=""):
@@ -41,29 +40,29 @@ def stop(house, name, tries=""):
     run.says(tries)
     if tries != "":
         need_space(house, name)
-    verdict = judged(house, run, tries)
+    verdict = judge(after_tries(house, run, tries), reaches(run))
     if verdict[0] == "none":
         raise NoWorld(verdict[1])
-    return decided(verdict)
+    return ENDS.get(verdict[0])
 
 
 def endings(house, name):
     """The strings of tries that can be an end, ascending, each with its word and with who ends it."""
     run = run_named(house, name)
     need_space(house, name)
-    verdicts = {}
+    known = {}
     todo = [""]
     while len(todo) > 0:
         tries = todo.pop()
         # What tries tell depends on their counts alone.
         counts = (tries.count("r"), tries.count("m"))
-        if counts not in verdicts:
-            verdicts[counts] = judged(house, run, tries)
-        word = decided(verdicts[counts])
+        if counts not in known:
+            known[counts] = word(after_tries(house, run, tries), reaches(run))
         end = run.table.word_after(tries)
-        if word is not None:
-            yield (tries, word, "house")
-        elif end is not None and verdicts[counts][0] != "none":
-            yield (tries, end, "table")
-        elif verdicts[counts][0] != "none":
-            todo.extend([tries + "r", tries + "m"])
+        if known[counts] in ENDS:
+            yield (tries, ENDS[known[counts]], "house")
+        elif known[counts] == "open":
+            if end is not None:
+                yield (tries, end, "table")
+            else:
+                todo.extend([tries + "r", tries + "m"])

@@ -206,7 +206,7 @@ class TestCheckGround(Case):
             for level in ((2 * top + 2, 2 * bottom + 2), (-top, -bottom), (2 * top, 2 * bottom), (top, 0), (0, 2), (1, -1)):
                 if level != world["a"]:
                     self.assertFalse(self.right(worlds={**worlds, thing: {**world, "a": level}}), level)
-            for level in ((2, 2), (0, 3), (1, 0), (0, 0), (3, -1), (-4, 6)):
+            for level in ((2, 2), (0, 3), (1, 0), (0, 0), (3, -1), (-4, 6), (1,), (1, 2, 3), 1, None, "1", [1, 2], ("1", 1), (1, None)):
                 self.assertFalse(self.right(worlds={**worlds, thing: {**world, "zz": level}}), level)
             for level in ((2, 1), (0, 1), (-4, 7)):
                 self.assertTrue(self.right(worlds={**worlds, thing: {**world, "zz": level}}), level)

@@ -14,7 +14,7 @@ from metehouse.judging import word
 from metehouse.pieces import Pieces
 from metehouse.racks import Rack
 from metehouse.ranks import ranked, worst_miss
-from metehouse.spans import MOST_PIECES, rank_span, signings, span
+from metehouse.spans import MOST_PIECES, rank_span, signings, span, value_to_ask
 from tests.helping import Case
 from tests.housing import all_quantities, all_trees, gauge_house, has_world, is_right, plain_fits, plain_span, some_claim
 from tests.housing import some_form, some_house
@@ -97,6 +97,40 @@ class TestSpan(Case):
         self.refused(TooWide, span, gauges, X, has={"width": 13})
         gauges = gauge_house([3] * 24, [5 * number for number in range(24)], 23)
         self.assertEqual(str(self.check(gauges, X)), "[-3, 118]")
+
+    def test_pieces_that_are_found_far_from_each_other(self):
+        for bits, room, text in ((5, 1, "[0, 32]"), (4, 0, None), (3, 0, None), (5, 0, None)):
+            house = House()
+            total = Form()
+            for bit in range(bits):
+                own = Form.one(f"b{bit}")
+                house.learn(Either(Same(own), Same(own, 2 ** bit)), "s")
+                total = total + own
+            house.learn(Both(AtMost(total - X), AtMost(X - total - room)), "s")
+            if text is not None:
+                self.assertEqual(str(self.check(house, X)), text)
+            elif bits == 3:
+                self.assertEqual(str(self.check(house, X)), " ".join(f"[{number}, {number}]" for number in range(8)))
+            else:
+                self.refused(TooWide, span, house, X, has={"width": 13})
+
+    def test_values_to_ask(self):
+        def points(count, step=2):
+            return Pieces(*[((step * k, 1), True, (step * k, 1), True) for k in range(count)])
+        self.assertIsNone(value_to_ask(points(12), []))
+        for count in (13, 14, 20):
+            found = points(count)
+            missing = []
+            for _ in range(12):
+                value = value_to_ask(found, missing)
+                self.assertFalse(value in found)
+                self.assertTrue(0 < value[0] < 2 * (count - 1) * value[1])
+                self.assertEqual(len({other[0] // other[1] // 2 for other in [*missing, value]}), len(missing) + 1)
+                missing.append(value)
+            self.refused(TooWide, value_to_ask, found, missing, has={"width": 13})
+            outside = [(-1, 1), (2 * count, 1)] + missing[1:]
+            self.assertFalse(value_to_ask(found, outside) in found)
+            self.assertFalse(value_to_ask(found, [missing[0]] * 12) in found)
 
     def test_racks(self):
         chance = random.Random(29)
