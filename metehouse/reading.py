@@ -163,7 +163,8 @@ def simple_of(kind, name, numbers, forms):
     if kind == "coarse" and size == (2, 1):
         return CoarseGauge(name, forms[0], radius=numbers[0], step=numbers[1])
     if kind == "late" and len(numbers) == 1:
-        return LateGauge(name, *forms, radius=numbers[0])
+        radius = numbers[0]
+        return LateGauge(name, *forms, radius=radius)
     if kind == "balance" and size == (1, 2):
         return Balance(name, forms[0], forms[1], dead=numbers[0])
     if kind == "fork" and size == (1, 2):

@@ -80,6 +80,31 @@ def attributes(owner):
     return found
 
 
+def properties():
+    return {method.name for owner in all_classes().values() for method in methods(owner) if decorated(method, "property")}
+
+
+def is_plain(node):
+    """Is this a name, an attribute off a name that is no property, a literal, or a list, tuple or dict of these?"""
+    if isinstance(node, (ast.List, ast.Tuple)):
+        return all(is_plain(part) for part in node.elts)
+    if isinstance(node, ast.Dict):
+        return all(part is not None and is_plain(part) for part in node.keys + node.values)
+    if isinstance(node, ast.Attribute):
+        return isinstance(node.value, ast.Name) and node.attr not in properties()
+    return isinstance(node, (ast.Name, ast.Constant))
+
+
+def wrong_behind_star(call):
+    """What stands behind the first star of a call, keywords too, and must have a name first."""
+    stars = [at for at, part in enumerate(call.args) if isinstance(part, ast.Starred)]
+    if not stars:
+        return []
+    behind = call.args[stars[0]:] + [word.value for word in call.keywords]
+    parts = [part.value if isinstance(part, ast.Starred) else part for part in behind]
+    return [ast.unparse(part) for part in parts if not is_plain(part)]
+
+
 class TestText(unittest.TestCase):
     def test_sizes_and_characters(self):
         self.assertLessEqual(len(FILES), 100)
@@ -218,9 +243,40 @@ class TestStatements(unittest.TestCase):
         for name, tree in TREES.items():
             for node in ast.walk(tree):
                 if isinstance(node, ast.Call):
-                    for part in [part.value for part in node.args if isinstance(part, ast.Starred)]:
-                        self.assertIsInstance(part, (ast.Name, ast.Attribute, ast.List, ast.Tuple), name)
-                    self.assertNotIn(None, [word.arg for word in node.keywords], name)
+                    place = f"{name}:{node.lineno}"
+                    self.assertEqual(wrong_behind_star(node), [], place)
+                    self.assertNotIn(None, [word.arg for word in node.keywords], place)
+                    for star in [part for part in node.args if isinstance(part, ast.Starred)]:
+                        for word in node.keywords:
+                            self.assertLess((star.lineno, star.col_offset), (word.lineno, word.col_offset), place)
+
+    def test_what_is_called_with_a_star(self):
+        own = {method.name for owner in all_classes().values() for method in methods(owner)}
+        errors = {owner.name for owner in classes(TREES["errors"])}
+        for name, tree in TREES.items():
+            for node in [node for node in ast.walk(tree) if isinstance(node, ast.Call)]:
+                if any(isinstance(part, ast.Starred) for part in node.args):
+                    place = f"{name}:{node.lineno}"
+                    if isinstance(node.func, ast.Attribute):
+                        self.assertIn(node.func.attr, own, place)
+                    else:
+                        self.assertNotIn(node.func.id, errors, place)
+                        self.assertNotIn(node.func.id, USED_BUILTINS - {"max", "min", "zip"}, place)
+
+    def test_what_may_stand_behind_a_star(self):
+        right = ("f(*xs)", "f(rows[0], *xs)", "f(rows[0], g(1), key=len(xs))", "f(*box.rows)", "f(*[k, box.n], *(1, k))",
+                 "f(*xs, n, sep=n)", "f(*xs, 1, sep='a', by={'k': [n], 2: box.n})")
+        for text in right:
+            self.assertEqual(wrong_behind_star(ast.parse(text).body[0].value), [], text)
+        wrong = {
+            "LateGauge(name, *forms, radius=numbers[0])": ["numbers[0]"],
+            "f(*rows[0])": ["rows[0]"], "f(*xs[1:], n)": ["xs[1:]"], "f(*g(n))": ["g(n)"],
+            "f(*box.inner.rows)": ["box.inner.rows"],
+            "f(*house.limit, *xs)": ["house.limit"], "f(*xs, rows[0], by=g(n))": ["rows[0]", "g(n)"],
+            "f(*xs, by=track.now)": ["track.now"], "f(*xs, n + 1)": ["n + 1"], "f(*xs, (n, g(n)))": ["(n, g(n))"],
+            "f(*[x for x in xs])": ["[x for x in xs]"], "f(*(xs if n else ys))": ["xs if n else ys"]}
+        for text, parts in wrong.items():
+            self.assertEqual(wrong_behind_star(ast.parse(text).body[0].value), parts, text)
 
 
 class TestNames(unittest.TestCase):
